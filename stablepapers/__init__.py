@@ -1,0 +1,1 @@
+"""Stablepapers: answer sets whose every answer comes with a certificate."""

@@ -1,0 +1,77 @@
+"""What holds for the package as a whole: point 1, where the interface stands, and the size of the code."""
+
+import ast
+import importlib
+import pathlib
+import unittest
+
+FOLDER = pathlib.Path(__file__).resolve().parent.parent / "stablepapers"
+FILES = sorted(FOLDER.rglob("*.py"))
+LIBRARY = {
+    "heapq": {"heappush", "heappop", "heapify", "heapreplace", "heappushpop"},
+    "math": {"gcd", "lcm", "isqrt", "comb", "perm", "factorial"},
+    "itertools": {"product", "combinations", "permutations", "chain", "accumulate", "pairwise", "islice",
+                  "zip_longest"},
+    "collections": {"defaultdict"},
+}
+BARRED = {"open", "input", "print", "eval", "exec", "compile", "globals", "hash", "id"}
+INTERFACE = {
+    "errors": ["StableError", "TextError", "LimitError"],
+    "tokens": ["tokens"],
+    "trees": ["format_term", "format_atom", "format_condition", "format_statement", "format_text"],
+}
+
+
+def tree_of(path):
+    return ast.parse(path.read_text(encoding="ascii"))
+
+
+def functions_of(tree):
+    return [node for node in ast.walk(tree) if isinstance(node, (ast.FunctionDef, ast.Lambda))]
+
+
+class Package(unittest.TestCase):
+    def test_imports_come_from_the_package_or_the_allowed_library(self):
+        # So there is no clock, no random source and no file access.
+        for path in FILES:
+            for node in ast.walk(tree_of(path)):
+                self.assertNotIsInstance(node, ast.Import, path.name)
+                if isinstance(node, ast.ImportFrom):
+                    self.assertEqual(node.level, 0, path.name)
+                    if node.module.split(".")[0] != "stablepapers":
+                        self.assertLessEqual({name.name for name in node.names}, LIBRARY.get(node.module, set()))
+
+    def test_no_builtin_that_reads_or_runs_something_outside(self):
+        for path in FILES:
+            names = {node.id for node in ast.walk(tree_of(path)) if isinstance(node, ast.Name)}
+            self.assertEqual(names & BARRED, set(), path.name)
+
+    def test_the_interface_is_defined_in_its_files(self):
+        for name, expected in INTERFACE.items():
+            tree = tree_of(FOLDER / f"{name}.py")
+            defined = [node.name for node in tree.body if isinstance(node, (ast.FunctionDef, ast.ClassDef))]
+            module = importlib.import_module(f"stablepapers.{name}")
+            for wanted in expected:
+                self.assertIn(wanted, defined)
+                self.assertTrue(callable(getattr(module, wanted)))
+
+    def test_sizes_and_characters(self):
+        for path in FILES:
+            text = path.read_text(encoding="ascii")
+            lines = text.split("\n")
+            self.assertLessEqual(len(lines), 400, path.name)
+            self.assertLessEqual(max(len(line) for line in lines), 120, path.name)
+            self.assertTrue(all(char == "\n" or " " <= char <= "~" for char in text), path.name)
+            for node in functions_of(ast.parse(text)):
+                self.assertLessEqual(node.end_lineno - node.lineno + 1, 40, path.name)
+
+    def test_the_folder_contains_nothing_else(self):
+        others = [
+            path.name for path in FOLDER.rglob("*")
+            if path.is_file() and path.suffix != ".py" and "__pycache__" not in path.parts
+        ]
+        self.assertEqual(others, [])
+
+
+if __name__ == "__main__":
+    unittest.main()
