@@ -1,6 +1,7 @@
 """What holds for the package as a whole: point 1, where the interface stands, and the size of the code."""
 
 import ast
+import builtins
 import importlib
 import pathlib
 import unittest
@@ -15,10 +16,19 @@ LIBRARY = {
     "collections": {"defaultdict"},
 }
 BARRED = {"open", "input", "print", "eval", "exec", "compile", "globals", "hash", "id"}
+# The functions and classes that the document lists for each file, with the names of their arguments.
 INTERFACE = {
-    "errors": ["StableError", "TextError", "LimitError"],
-    "tokens": ["tokens"],
-    "trees": ["format_term", "format_atom", "format_condition", "format_statement", "format_text"],
+    "errors": {"StableError": None, "TextError": None, "LimitError": None},
+    "tokens": {"tokens": ["text"]},
+    "trees": {"format_term": ["term"], "format_atom": ["atom"], "format_condition": ["condition"],
+              "format_statement": ["statement"], "format_text": ["statements"]},
+    "parsing": {"parse": ["text"]},
+    "terms": {"rank": ["constant"], "value": ["term", "names"], "holds": ["sign", "left", "right"],
+              "atom_instance": ["atom", "names", "universe"],
+              "conditions_instance": ["conditions", "names", "universe"],
+              "substitutions": ["names", "wanted", "universe"]},
+    "universe": {"universe": ["statements"]},
+    "plain": {"global_variables": ["statement"], "local_variables": ["part", "names"], "plain_rules": ["statements"]},
 }
 
 
@@ -49,11 +59,29 @@ class Package(unittest.TestCase):
     def test_the_interface_is_defined_in_its_files(self):
         for name, expected in INTERFACE.items():
             tree = tree_of(FOLDER / f"{name}.py")
-            defined = [node.name for node in tree.body if isinstance(node, (ast.FunctionDef, ast.ClassDef))]
+            defined = {node.name: node for node in tree.body if isinstance(node, (ast.FunctionDef, ast.ClassDef))}
             module = importlib.import_module(f"stablepapers.{name}")
-            for wanted in expected:
-                self.assertIn(wanted, defined)
+            for wanted, arguments in expected.items():
                 self.assertTrue(callable(getattr(module, wanted)))
+                if arguments is None:
+                    self.assertIsInstance(defined[wanted], ast.ClassDef)
+                else:
+                    self.assertEqual([one.arg for one in defined[wanted].args.args], arguments, wanted)
+
+    def test_no_name_inside_a_function_hides_an_import_or_a_builtin(self):
+        for path in FILES:
+            tree = tree_of(path)
+            taken = set(dir(builtins))
+            for node in tree.body:
+                if isinstance(node, ast.ImportFrom):
+                    taken.update(alias.name for alias in node.names)
+                elif isinstance(node, ast.ClassDef):
+                    taken.add(node.name)
+            inside = {node.arg for node in ast.walk(tree) if isinstance(node, ast.arg)}
+            inside.update(
+                node.id for node in ast.walk(tree) if isinstance(node, ast.Name) and isinstance(node.ctx, ast.Store)
+            )
+            self.assertEqual(inside & taken, set(), path.name)
 
     def test_sizes_and_characters(self):
         for path in FILES:
