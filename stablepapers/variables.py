@@ -24,9 +24,9 @@ def conditions_variables(conditions):
     return [name for condition in conditions for name in condition_variables(condition)]
 
 
-def distinct(names):
+def distinct(found):
     """Return a list without what occurs a second time in it."""
-    return list({name: True for name in names})
+    return list({one: True for one in found})
 
 
 def without(names, known):

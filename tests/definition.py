@@ -1,6 +1,7 @@
-"""Points 7 to 11, 14 to 17 and 22 of DOC.md a second time: slow, and as close to their words as can be.
+"""Points 7 to 11, 14 to 17 and 22 of DOC.md, and the count of point 12, a second time.
 
-The tests compare the program with it. It also makes the random texts and programs for that.
+It is slow, and as close to the words of the document as can be. The tests compare the program with it. The random
+texts and programs for that are made here, too.
 """
 
 import itertools
@@ -207,9 +208,108 @@ def rules_that_matter(statements):
     return [rule for rule in rules if found.issuperset(yes_atoms(rule))]
 
 
-def random_term(chooser, names, depth=1):
+def weight_of(rows, some, none):
+    """Add up the weights of the rows whose yes atoms are all in `some`, and whose no atoms are all not in `none`."""
+    return sum(weight for weight, yes, no in rows if set(yes) <= set(some) and not set(no) & set(none))
+
+
+def holds_in(condition, candidate):
+    kind = condition[0]
+    if kind in ("yes", "no"):
+        return (condition[1] in candidate) == (kind == "yes")
+    return (weight_of(condition[2], candidate, candidate) >= condition[1]) == (kind == "least")
+
+
+def supported(body, founded, candidate):
+    for condition in body:
+        if condition[0] == "yes":
+            fits = condition[1] in founded
+        elif condition[0] == "least":
+            fits = weight_of(condition[2], founded, candidate) >= condition[1]
+        else:
+            fits = holds_in(condition, candidate)
+        if not fits:
+            return False
+    return True
+
+
+def subsets(atoms):
+    return [list(found) for many in range(len(atoms) + 1) for found in itertools.combinations(atoms, many)]
+
+
+def derived(program, candidate):
+    """Return the set of point 15 by trying all sets of atoms."""
+    rules = [rule for rule in program[2] if rule[0] == "rule" or (rule[0] == "choose" and rule[1] in candidate)]
+    closed = [
+        found for found in subsets(range(len(program[1])))
+        if all(head in found for _, head, body in rules if supported(body, found, candidate))
+    ]
+    smallest = closed[0]
+    assert all(set(smallest) <= set(found) for found in closed)
+    return smallest
+
+
+def is_stable(program, candidate):
+    denied = any(rule[0] == "deny" and all(holds_in(one, candidate) for one in rule[2]) for rule in program[2])
+    return candidate == derived(program, candidate) and not denied
+
+
+def sure_and_possible(rows, values):
+    """Return the weights of the rows that surely count and of those that may count, added up."""
+    sure = possible_weight = 0
+    for weight, yes, no in rows:
+        literals = [values[atom] for atom in yes] + [None if values[atom] is None else not values[atom] for atom in no]
+        sure += weight * (set(literals) <= {True})
+        possible_weight += weight * (False not in literals)
+    return sure, possible_weight
+
+
+def surely(condition, values):
+    """Return whether a condition surely holds, and whether it surely fails."""
+    kind = condition[0]
+    if kind in ("yes", "no"):
+        found = values[condition[1]]
+        return (found is (kind == "yes"), found is (kind == "no"))
+    sure, possible_weight = sure_and_possible(condition[2], values)
+    if kind == "least":
+        return (sure >= condition[1], possible_weight < condition[1])
+    return (possible_weight < condition[1], sure >= condition[1])
+
+
+def random_rows(chooser, many):
+    rows = []
+    for _ in range(chooser.randint(0, 3)):
+        yes, no = [tuple(chooser.choices(range(many), k=chooser.choice([0, 0, 1, 1, 2]))) for _ in range(2)]
+        rows.append((chooser.choice([0, 1, 1, 2, 3]), yes, no))
+    return rows
+
+
+def random_plain_condition(chooser, many):
+    kind = chooser.choice(["yes", "yes", "yes", "no", "no", "least", "below"])
+    if kind in ("yes", "no"):
+        return (kind, chooser.randrange(many))
+    return (kind, chooser.randint(-1, 4), random_rows(chooser, many))
+
+
+def random_body(chooser, many, most=3):
+    return [random_plain_condition(chooser, many) for _ in range(chooser.choice(range(most + 1)))]
+
+
+def random_program(chooser, many=4):
+    """Return a random program, with conditions in any order, and perhaps with atoms that occur in no rule."""
+    rules = []
+    for _ in range(chooser.randint(0, 7)):
+        kind = chooser.choice(["rule", "rule", "rule", "choose", "choose", "deny"])
+        head = None if kind == "deny" else chooser.randrange(many)
+        rules.append((kind, head, random_body(chooser, many)))
+    return ("program", [(name, ()) for name in "abcdefgh"[:many]], rules, random_rows(chooser, many))
+
+
+def random_term(chooser, names, depth=2):
+    """Return a random term; operations in it are in brackets, as it may stand as an operand."""
     if depth and chooser.random() < 0.25:
-        return f"{random_term(chooser, names, 0)} {chooser.choice('+-*')} {random_term(chooser, names, 0)}"
+        left, right = random_term(chooser, names, depth - 1), random_term(chooser, names, depth - 1)
+        return f"({left} {chooser.choice('+-*')} {right})"
     return chooser.choice(names * 2 + ["0", "1", "2", "a", "b"])
 
 

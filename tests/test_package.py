@@ -29,6 +29,15 @@ INTERFACE = {
               "substitutions": ["names", "wanted", "universe"]},
     "universe": {"universe": ["statements"]},
     "plain": {"global_variables": ["statement"], "local_variables": ["part", "names"], "plain_rules": ["statements"]},
+    "programs": {"ground": ["statements"], "with_denials": ["program", "bodies"]},
+    "stable": {"condition_holds": ["condition", "candidate"], "body_holds": ["body", "candidate"],
+               "supported": ["body", "founded", "candidate"], "derived": ["program", "candidate"],
+               "is_stable": ["program", "candidate"], "cost_of": ["program", "candidate"]},
+    "possible": {"possible_atoms": ["rules"], "matching": ["statements"]},
+    "values": {"surely_counts": ["row", "values"], "may_count": ["row", "values"],
+               "surely_holds": ["condition", "values"], "surely_fails": ["condition", "values"],
+               "body_surely_holds": ["body", "values"], "body_surely_fails": ["body", "values"],
+               "cut_off": ["body", "group", "values"]},
 }
 
 
