@@ -73,29 +73,34 @@ def awaited_atoms(body):
     return found
 
 
-def rules_by_awaited_atom(rules):
-    """Return a dict from each atom to the rules that are to be looked at again when it is founded."""
+def rules_by_awaited_atom(rules, numbers):
+    """Return a dict from each atom to the numbers of the rules that are to be looked at again when it is founded."""
     waiting = {}
-    for rule in rules:
-        for atom in distinct(awaited_atoms(rule[2])):
-            waiting.setdefault(atom, []).append(rule)
+    for number in numbers:
+        for atom in distinct(awaited_atoms(rules[number][2])):
+            waiting.setdefault(atom, []).append(number)
     return waiting
+
+
+def derivation(rules, candidate):
+    """Return the pairs of an atom of the derived set and the number of its rule, in the order of the derivation."""
+    inside = {atom: True for atom in candidate}
+    queue = [number for number, rule in enumerate(rules) if may_derive(rule, inside)]
+    waiting = rules_by_awaited_atom(rules, queue)
+    founded = {}
+    place = 0
+    while place < len(queue):
+        _, head, body = rules[queue[place]]
+        if head not in founded and supported(body, founded, inside):
+            founded[head] = queue[place]
+            queue.extend(waiting.get(head, []))
+        place += 1
+    return list(founded.items())
 
 
 def derived(program, candidate):
     """Return the derived set of a candidate as an ascending list."""
-    inside = {atom: True for atom in candidate}
-    queue = [rule for rule in program[2] if may_derive(rule, inside)]
-    waiting = rules_by_awaited_atom(queue)
-    founded = {}
-    place = 0
-    while place < len(queue):
-        _, head, body = queue[place]
-        place += 1
-        if head not in founded and supported(body, founded, inside):
-            founded[head] = True
-            queue.extend(waiting.get(head, []))
-    return sorted(founded)
+    return sorted([atom for atom, _ in derivation(program[2], candidate)])
 
 
 def is_stable(program, candidate):

@@ -1,4 +1,4 @@
-"""Points 7 to 11, 14 to 17 and 22 of DOC.md, and the count of point 12, a second time.
+"""Points 7 to 11, 13 to 17 and 22 of DOC.md, and the count of point 12, a second time.
 
 It is slow, and as close to the words of the document as can be. The tests compare the program with it. The random
 texts and programs for that are made here, too.
@@ -176,6 +176,36 @@ def plain_rules(statements):
             if statement[3] is not None:
                 rules.append(("deny", None, plain + [("least", statement[3] + 1, rows)]))
     return rules, costs
+
+
+def ground(statements):
+    """Return the program of point 13."""
+    rules, costs = plain_rules(statements)
+    atoms = set()
+
+    def collect(rows):
+        for _, yes, no in rows:
+            atoms.update(yes + no)
+
+    collect(costs)
+    for kind, head, body in rules:
+        if kind != "deny":
+            atoms.add(head)
+        for condition in body:
+            if condition[0] in ("yes", "no"):
+                atoms.add(condition[1])
+            else:
+                collect(condition[2])
+    listed = sorted(atoms, key=lambda atom: (atom[0], len(atom[1]), [place(one) for one in atom[1]]))
+
+    def numbered(rows):
+        return [(weight, tuple(map(listed.index, yes)), tuple(map(listed.index, no))) for weight, yes, no in rows]
+
+    return ("program", listed, [
+        (kind, None if kind == "deny" else listed.index(head), [
+            (one[0], listed.index(one[1])) if len(one) == 2 else (one[0], one[1], numbered(one[2])) for one in body
+        ]) for kind, head, body in rules
+    ], numbered(costs))
 
 
 def substitutions_of(statement, many):

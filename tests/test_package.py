@@ -16,9 +16,10 @@ LIBRARY = {
     "collections": {"defaultdict"},
 }
 BARRED = {"open", "input", "print", "eval", "exec", "compile", "globals", "hash", "id"}
-# The functions and classes that the document lists for each file, with the names of their arguments.
+# The functions and classes that the document lists for each file, with the names of their arguments; for a class these
+# are the names of the arguments of its methods, behind `self`.
 INTERFACE = {
-    "errors": {"StableError": None, "TextError": None, "LimitError": None},
+    "errors": {"StableError": {}, "TextError": {}, "LimitError": {}},
     "tokens": {"tokens": ["text"]},
     "trees": {"format_term": ["term"], "format_atom": ["atom"], "format_condition": ["condition"],
               "format_statement": ["statement"], "format_text": ["statements"]},
@@ -38,6 +39,16 @@ INTERFACE = {
                "surely_holds": ["condition", "values"], "surely_fails": ["condition", "values"],
                "body_surely_holds": ["body", "values"], "body_surely_fails": ["body", "values"],
                "cut_off": ["body", "group", "values"]},
+    "founded": {"model_paper": ["program", "candidate"], "paper_atoms": ["paper"], "model_right": ["program", "paper"]},
+    "refuted": {"node_right": ["rules", "node", "values"], "none_right": ["program", "node"]},
+    "unfounded": {"unfounded_atoms": ["rules", "values"]},
+    "search": {"search": ["program"]},
+    "solving": {"Solver": {"__init__": ["statements", "program"], "solve": ["bodies"]}},
+    "every": {"exclusion": ["program", "candidate"], "all_candidates": ["solver", "limit"],
+              "list_right": ["program", "paper"]},
+    "best": {"best_candidate": ["solver"], "best_right": ["program", "paper"],
+             "certain_right": ["program", "atom", "paper"], "impossible_right": ["program", "atom", "paper"]},
+    "answers": {"answer": ["text", "query"], "check_answer": ["text", "query", "given"]},
 }
 
 
@@ -47,6 +58,11 @@ def tree_of(path):
 
 def functions_of(tree):
     return [node for node in ast.walk(tree) if isinstance(node, (ast.FunctionDef, ast.Lambda))]
+
+
+def arguments_of(tree):
+    """Return the names of the arguments of the functions that a file or a class defines itself."""
+    return {node.name: [one.arg for one in node.args.args] for node in tree.body if isinstance(node, ast.FunctionDef)}
 
 
 class Package(unittest.TestCase):
@@ -72,10 +88,13 @@ class Package(unittest.TestCase):
             module = importlib.import_module(f"stablepapers.{name}")
             for wanted, arguments in expected.items():
                 self.assertTrue(callable(getattr(module, wanted)))
-                if arguments is None:
+                if isinstance(arguments, dict):
                     self.assertIsInstance(defined[wanted], ast.ClassDef)
+                    methods = arguments_of(defined[wanted])
+                    for method, names in arguments.items():
+                        self.assertEqual(methods.get(method), ["self"] + names, wanted)
                 else:
-                    self.assertEqual([one.arg for one in defined[wanted].args.args], arguments, wanted)
+                    self.assertEqual(arguments_of(tree).get(wanted), arguments, wanted)
 
     def test_no_name_inside_a_function_hides_an_import_or_a_builtin(self):
         for path in FILES:

@@ -13,35 +13,6 @@ NOTHING = ("range", 1, 0)
 FACT = ("rule", ("atom", "z", []), [])
 
 
-def ground_by_definition(statements):
-    rules, costs = definition.plain_rules(statements)
-    atoms = set()
-
-    def collect(rows):
-        for _, yes, no in rows:
-            atoms.update(yes + no)
-
-    collect(costs)
-    for kind, head, body in rules:
-        if kind != "deny":
-            atoms.add(head)
-        for condition in body:
-            if condition[0] in ("yes", "no"):
-                atoms.add(condition[1])
-            else:
-                collect(condition[2])
-    listed = sorted(atoms, key=lambda atom: (atom[0], len(atom[1]), [definition.place(one) for one in atom[1]]))
-
-    def numbered(rows):
-        return [(weight, tuple(map(listed.index, yes)), tuple(map(listed.index, no))) for weight, yes, no in rows]
-
-    return ("program", listed, [
-        (kind, None if kind == "deny" else listed.index(head), [
-            (one[0], listed.index(one[1])) if len(one) == 2 else (one[0], one[1], numbered(one[2])) for one in body
-        ]) for kind, head, body in rules
-    ], numbered(costs))
-
-
 class TestCase(unittest.TestCase):
     def assert_ground(self, text, atoms, rules, costs=()):
         self.assertEqual(ground(parse(text)), ("program", atoms, rules, list(costs)), text)
@@ -134,7 +105,7 @@ class Ground(TestCase):
         chooser = random.Random(7)
         for _ in range(700):
             text = definition.random_text(chooser)
-            self.assertEqual(ground(parse(text)), ground_by_definition(parse(text)), text)
+            self.assertEqual(ground(parse(text)), definition.ground(parse(text)), text)
 
 
 class Limits(TestCase):

@@ -1,40 +1,16 @@
 """Candidates, derived sets, stable candidates and costs: points 14 to 16."""
 
-import copy
 import random
 import unittest
 
 import definition
+from shapes import CallsCase, choose, deny, no, program, rule, yes
 from stablepapers.parsing import parse
 from stablepapers.programs import ground
 from stablepapers.stable import body_holds, condition_holds, cost_of, derived, is_stable, supported
 
 # Their weights add up to 5 in [0, 2] and to 2 in [0, 1, 2].
 ROWS = [(2, (0,), ()), (3, (0, 2), (1,)), (4, (1,), (2,)), (0, (), ())]
-
-
-def program(rules, many=4, costs=()):
-    return ("program", [(name, ()) for name in "abcdefgh"[:many]], rules, list(costs))
-
-
-def rule(head, *body):
-    return ("rule", head, list(body))
-
-
-def choose(head, *body):
-    return ("choose", head, list(body))
-
-
-def deny(*body):
-    return ("deny", None, list(body))
-
-
-def yes(number):
-    return ("yes", number)
-
-
-def no(number):
-    return ("no", number)
 
 
 class Conditions(unittest.TestCase):
@@ -345,14 +321,7 @@ class Costs(unittest.TestCase):
                 self.assertEqual(cost_of(tried, candidate), definition.weight_of(tried[3], candidate, candidate))
 
 
-class Calls(unittest.TestCase):
-    def assert_left_alone(self, function, *arguments):
-        kept = copy.deepcopy(arguments)
-        first = function(*arguments)
-        self.assertEqual(arguments, kept)
-        self.assertEqual(function(*arguments), first)
-        self.assertEqual(arguments, kept)
-
+class Calls(CallsCase):
     def test_arguments_are_left_alone_and_a_second_call_returns_the_same(self):
         body = [yes(0), ("least", 1, list(ROWS)), no(3), ("below", 9, list(ROWS))]
         tried = program([rule(1, *body), choose(0), rule(2, yes(1)), deny(*body)], costs=ROWS)
