@@ -13,7 +13,8 @@ class Reasons:
         self.place = place
 
     def latest(self, atoms):
-        return max([self.place[atom] for atom in atoms], default=0)
+        """Return the place of the atom that was decided last; what rests on no atom comes before all places."""
+        return max([self.place[atom] for atom in atoms], default=-1)
 
     def breaker(self, row):
         """Return the earliest atom with a value with which a row cannot count."""

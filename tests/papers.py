@@ -195,8 +195,9 @@ def accepted(program, query, given):
         return atom_accepted(program, query, given)
     if query[0] == "all" and given[0] == "all":
         _, models, (papers, last) = given
-        fits = len(models) == len(papers) and len(models) <= query[1]
-        return fits and all(map(states, [program] * len(papers), models, papers)) and list_right(program, (papers, last))
+        if len(models) != len(papers) or len(models) > query[1]:
+            return False
+        return all(map(states, [program] * len(papers), models, papers)) and list_right(program, (papers, last))
     if query[0] == "all" and given[0] == "more":
         _, models, papers = given
         fits = len(models) == len(papers) == query[1] + 1 and all_different(models)

@@ -218,7 +218,8 @@ class Returned(PaperCase):
         self.assert_has_paper(tried, [0, 1, 2, 3])
 
     def test_a_loop_through_sums(self):
-        rules = [rule(0, least(2, (1, (1,), ()), (1, (2,), ()))), rule(1, yes(0)), rule(2, yes(0)), choose(1), choose(2)]
+        rules = [rule(0, least(2, (1, (1,), ()), (1, (2,), ()))), rule(1, yes(0)), rule(2, yes(0))]
+        rules += [choose(1), choose(2)]
         for candidate in ([], [1], [2], [0, 1, 2]):
             self.assert_has_paper(program(rules), candidate)
 
