@@ -139,14 +139,15 @@ class Reasons:
         found = []
         place = 0
         while place < len(queue):
-            for rule in self.tables.rules_of[queue[place]]:
+            rules = self.tables.rules_of[queue[place]]
+            place += 1
+            for rule in rules:
                 more, why = self.cut(rule, inside, group)
                 found.extend(why)
                 for atom in more:
                     if atom not in inside:
                         inside[atom] = True
                         queue.append(atom)
-            place += 1
         return (sorted(inside), found)
 
     def needed(self, step, wanted):
